@@ -36,7 +36,8 @@ BARRED = set(
     " compile copyright credits delattr dir eval exec exit gc globals help id importlib license locals"
     " methodcaller os quit type vars typing enum Enum namedtuple dataclass _cold chr print float sys".split()
 )
-TAKERS = {"list", "tuple", "dict", "sorted", "sum", "min", "max", "any", "all"}
+# Not sorted, sum, min, max, any and all, which take lists where a class of the package has __eq__.
+TAKERS = {"list", "tuple", "dict"}
 STATEMENTS = {
     "FunctionDef", "ClassDef", "Return", "Delete", "Assign", "AugAssign", "AnnAssign", "For", "While", "If", "With",
     "Match", "Raise", "Try", "Assert", "ImportFrom", "Nonlocal", "Expr", "Pass", "Break", "Continue",

@@ -2,6 +2,8 @@
 
 CODES = {"group": 1, "data": 2, "free": 3, "table": 4}
 NAMES = {code: kind for kind, code in CODES.items()}
+SHAPE_KINDS = ["group", "data", "data", "table"]
+FILE_KINDS = ["group", "group", "data", "data", "data", "free", "table"]
 
 
 class Wrong(Exception):
@@ -46,7 +48,19 @@ def rows_of(boxes, at, starts, spare):
 
 
 def told(cells):
-    """The boxes of a row of cells, read in one pass with the ends of all open groups; Wrong if it is no file."""
+    """The boxes of a row of cells, with the targets of its tables; Wrong if it is no file."""
+    top, starts, entries = told_boxes(cells)
+    for place, entry in entries:
+        if target_of(entry, starts) is None:
+            raise Wrong(place)
+    return settled(top, starts)
+
+
+def told_boxes(cells):
+    """The boxes of a row of cells, where the data stand, and the entries; Wrong if there is a wrong box.
+
+    They are read in one pass with the ends of all open groups.
+    """
     cells = list(cells)
     top, starts, entries = [], [], []
     stack = [(len(cells), top)]
@@ -55,7 +69,7 @@ def told(cells):
         while stack and stack[-1][0] == at:
             stack.pop()
         if not stack:
-            break
+            return top, starts, entries
         end, boxes = stack[-1]
         if at + 1 == end or cells[at] not in NAMES or (cells[at] == 1 and len(stack) == 3):
             raise Wrong(at)
@@ -72,10 +86,6 @@ def told(cells):
         if kind == "group":
             stack.append((at + length, content))
         at += 2 if kind == "group" else length
-    for place, entry in entries:
-        if target_of(entry, starts) is None:
-            raise Wrong(place)
-    return settled(top, starts)
 
 
 def target_of(entry, starts):
@@ -159,6 +169,40 @@ def pointed(rng, boxes, cells):
     return tuple(made)
 
 
+def is_shape(value):
+    """Whether a value is a shape, by writing it as a file and reading this: only a shape comes back the same."""
+    if not isinstance(value, tuple) or not value:
+        return False
+    try:
+        back = told(written(value))
+    except (Wrong, TypeError, ValueError, KeyError, IndexError, AttributeError):
+        return False
+    if repr(back) != repr(value):
+        return False
+    boxes = boxes_in(back)
+    small = all(kind == "group" or kind != "free" and len(content) <= 6 for kind, content in boxes)
+    cells = [cell for kind, content in boxes if kind == "data" for cell in content]
+    plain = all(cell.__class__ is int and 0 <= cell <= 99 for cell in cells)
+    return small and plain and len(boxes) <= 6 and len(written(back)) <= 30
+
+
+def gaps_in(boxes):
+    return len(boxes) + 1 + sum(gaps_in(content) for kind, content in boxes if kind == "group")
+
+
+def random_shape(rng):
+    """A random shape."""
+    while True:
+        boxes = random_boxes(rng, SHAPE_KINDS)
+        if is_shape(boxes):
+            return boxes
+
+
+def random_file(rng):
+    """The cells of a random file, a list."""
+    return written(random_boxes(rng, FILE_KINDS), rng.choice([0, 3, 7]))
+
+
 def odd_values():
     """Values of all kinds that are neither rows of cells nor shapes, made anew."""
     return [
@@ -184,3 +228,11 @@ def caught(error, action, *values):
     except error as found:
         return found if found.__class__ is error else None
     return None
+
+
+def attempted(action, *values):
+    """Make a call that may be refused."""
+    try:
+        action(*values)
+    except ValueError:
+        pass

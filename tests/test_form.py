@@ -6,7 +6,7 @@ import pathlib
 import re
 import unittest
 
-from boxshift import boxes, shapes
+from boxshift import boxes, forms, layouts, patches, series, shapes
 from tests.form import METHODS, DUNDERS, methods_called, methods_defined, modules_imported, wrongs_of
 
 FOLDER = pathlib.Path(__file__).parent.parent / "boxshift"
@@ -18,12 +18,35 @@ INTERFACE = {
     "errors": ERRORS,
     "boxes": ["read", "shape_of", "free_cells", "first_wrong"],
     "shapes": ["least_room", "count_gaps"],
+    "layouts": ["patched", "cost_of", "places", "known_cost"],
+    "patches": ["cheapest", "least_cost", "Patch", "room_costs"],
+    "forms": ["is_form", "nearest", "distance", "Near"],
+    "series": ["series", "series_cost", "one_by_one", "Series"],
 }
+# The methods that the document's interface lists for a class, and those that it tells in words.
+LISTED = {"Patch": ["__init__", "__eq__", "shows"], "Near": ["__init__", "__eq__", "shows"],
+          "Series": ["__init__", "__eq__", "shows"]}
+PARAMETERS = [
+    ("cells", [boxes.read, boxes.shape_of, boxes.free_cells, boxes.first_wrong]),
+    ("shape", [shapes.least_room, shapes.count_gaps]),
+    ("cells shape gaps", [layouts.patched, layouts.cost_of, layouts.places, layouts.known_cost]),
+    ("cells shape room", [patches.cheapest, patches.least_cost]),
+    ("cells shape", [patches.room_costs]),
+    ("cells", [forms.is_form, forms.nearest, forms.distance]),
+    ("cells shapes room", [series.series, series.series_cost, series.one_by_one]),
+    ("gaps tree", [patches.Patch]),
+    ("cells floors", [forms.Near]),
+    ("sizes floors", [series.Series]),
+    ("self cells shape room", [patches.Patch.shows]),
+    ("self cells", [forms.Near.shows]),
+    ("self cells shapes room", [series.Series.shows]),
+]
 # Each source breaks the rule behind it.
 BROKEN = [
     ("x = 1.5\n", "L7"),
     ("def f(a, b):\n    return a / b\n", "L7"),
     ("def f(xs):\n    return (x for x in xs)\n", "L7"),
+    ("def f(xs):\n    return sum(x for x in xs)\n", "L7"),
     ("import re\n", "L3"),
     ("from re import sub\n", "L2"),
     ("from .boxes import read\n", "L2"),
@@ -103,8 +126,14 @@ class InterfaceTest(unittest.TestCase):
             for word in words:
                 self.assertIn(word, defined)
 
+    def test_methods_are_defined_in_their_classes(self):
+        for tree in trees().values():
+            for node in tree.body:
+                if isinstance(node, ast.ClassDef):
+                    defined = [part.name for part in node.body if isinstance(part, ast.FunctionDef)]
+                    self.assertEqual([name for name in LISTED.get(node.name, []) if name not in defined], [])
+
     def test_parameters(self):
-        for function in [boxes.read, boxes.shape_of, boxes.free_cells, boxes.first_wrong]:
-            self.assertEqual(list(inspect.signature(function).parameters), ["cells"])
-        for function in [shapes.least_room, shapes.count_gaps]:
-            self.assertEqual(list(inspect.signature(function).parameters), ["shape"])
+        for words, functions in PARAMETERS:
+            for function in functions:
+                self.assertEqual(list(inspect.signature(function).parameters), words.split(), function)

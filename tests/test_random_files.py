@@ -5,9 +5,7 @@ import unittest
 
 from boxshift.boxes import first_wrong, free_cells, read, shape_of
 from boxshift.errors import BadFile
-from tests.support import caught, free_room, pruned, random_boxes, told, wrong_place, written
-
-KINDS = ["group", "group", "data", "data", "data", "free", "table"]
+from tests.support import FILE_KINDS, caught, free_room, pruned, random_boxes, told, wrong_place, written
 
 
 def changed(rng, cells):
@@ -30,7 +28,7 @@ class RandomFilesTest(unittest.TestCase):
     def test_what_was_written_is_read(self):
         rng = random.Random(1)
         for _ in range(3000):
-            boxes = random_boxes(rng, KINDS)
+            boxes = random_boxes(rng, FILE_KINDS)
             cells = written(boxes, rng.randint(0, 99))
             self.assertIsNone(first_wrong(cells), cells)
             self.assertEqual(read(cells), boxes)
@@ -41,7 +39,7 @@ class RandomFilesTest(unittest.TestCase):
         rng = random.Random(2)
         wrong = 0
         for _ in range(6000):
-            cells = changed(rng, written(random_boxes(rng, KINDS)))
+            cells = changed(rng, written(random_boxes(rng, FILE_KINDS)))
             wrong += self.check(cells)
         self.assertTrue(1500 < wrong < 5500, wrong)
 

@@ -7,9 +7,8 @@ import unittest
 from boxshift.boxes import shape_of
 from boxshift.errors import BadShape
 from boxshift.shapes import count_gaps, least_room
-from tests.support import Wrong, boxes_in, caught, odd_values, random_boxes, told, written
+from tests.support import SHAPE_KINDS, caught, gaps_in, is_shape, odd_values, random_boxes, written
 
-KINDS = ["group", "data", "data", "table"]
 EMPTY = ("data", ())
 ONE = ("data", (7,))
 
@@ -123,23 +122,6 @@ class LimitsTest(Shapes):
             self.check_refused((("group", (box,)),))
 
 
-def is_shape(value):
-    """Whether a value is a shape, by writing it as a file and reading this: only a shape comes back the same."""
-    if not isinstance(value, tuple) or not value:
-        return False
-    try:
-        back = told(written(value))
-    except (Wrong, TypeError, ValueError, KeyError, IndexError, AttributeError):
-        return False
-    if repr(back) != repr(value):
-        return False
-    boxes = boxes_in(back)
-    small = all(kind == "group" or kind != "free" and len(content) <= 6 for kind, content in boxes)
-    cells = [cell for kind, content in boxes if kind == "data" for cell in content]
-    plain = all(cell.__class__ is int and 0 <= cell <= 99 for cell in cells)
-    return small and plain and len(boxes) <= 6 and len(written(back)) <= 30
-
-
 def spoiled(rng, value):
     """A value of which one part, at any depth, is another one."""
     if isinstance(value, tuple) and value and rng.random() < 0.8:
@@ -150,16 +132,12 @@ def spoiled(rng, value):
     return rng.choice([0, 1, 2, -1, 99, 100, True, False, None, "data", "group", "table", "free", (), (0, 0), (1, 0)])
 
 
-def gaps_in(boxes):
-    return len(boxes) + 1 + sum(gaps_in(content) for kind, content in boxes if kind == "group")
-
-
 class RandomShapesTest(Shapes):
     def test_random_shapes(self):
         rng = random.Random(4)
         right = 0
         for _ in range(4000):
-            shape = random_boxes(rng, KINDS)
+            shape = random_boxes(rng, SHAPE_KINDS)
             if is_shape(shape):
                 right += 1
                 cells = written(shape)
@@ -173,7 +151,7 @@ class RandomShapesTest(Shapes):
         rng = random.Random(5)
         right = 0
         for _ in range(20000):
-            value = spoiled(rng, random_boxes(rng, KINDS))
+            value = spoiled(rng, random_boxes(rng, SHAPE_KINDS))
             if is_shape(value):
                 right += 1
                 self.check_shape(value, len(written(value)), gaps_in(value))
