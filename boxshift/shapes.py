@@ -52,6 +52,9 @@ def is_box(value, around):
     if not is_pair(value):
         return False
     kind, content = value
+    # An object of another class may be equal to any word.
+    if not isinstance(kind, str):
+        return False
     if kind == "group":
         return around <= MOST_GROUPS_AROUND and are_boxes(content, around + 1)
     if not isinstance(content, tuple) or len(content) > MOST_ITEMS:

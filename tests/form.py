@@ -175,6 +175,8 @@ def definition_wrong(node):
         name = one.attr if isinstance(one, ast.Attribute) else getattr(one, "id", None)
         if name not in ["property", "staticmethod", "classmethod", "setter"]:
             rules.append("L4")
+    if node.name == "__exit__" and not all(is_simple_row(row) for row in node.body):
+        rules.append("L6")
     if isinstance(node, ast.ClassDef):
         names = [part.name for part in node.body if isinstance(part, ast.FunctionDef)]
         for part in node.body:
@@ -183,6 +185,19 @@ def definition_wrong(node):
         rules += ["L5" for name in names if name.startswith("__") and name not in DUNDERS]
         rules += ["L18" for name in set(names) if names.count(name) > 1 and not node.decorator_list]
     return rules
+
+
+def is_simple_row(node):
+    """Whether a row of an __exit__ only assigns attributes and names to attributes and names, or does nothing."""
+    if isinstance(node, ast.Assign) and len(node.targets) == 1:
+        return is_attribute(node.targets[0]) and is_attribute(node.value)
+    return isinstance(node, ast.Pass) or isinstance(node, ast.Return) and node.value is None
+
+
+def is_attribute(node):
+    while isinstance(node, ast.Attribute):
+        node = node.value
+    return isinstance(node, ast.Name) and node.id not in ["kind", "value", "trace"]
 
 
 def constant_wrong(value):

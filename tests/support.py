@@ -1,5 +1,7 @@
 """What several tests need: a writer and a reader of files of their own, random boxes, and wrong values."""
 
+from unittest.mock import ANY
+
 CODES = {"group": 1, "data": 2, "free": 3, "table": 4}
 NAMES = {code: kind for kind, code in CODES.items()}
 SHAPE_KINDS = ["group", "data", "data", "table"]
@@ -211,6 +213,7 @@ def odd_values():
         [None], [True, 2], [2, True], [False], (True, True), ["2", "2"], [[2, 2]], [[[[[]]]]], [()], [{}], [(2, 2)],
         [2, 2, None], [2, 2, [2, 2]], [2, 3, "7"], [2, 3, (7,)], [2, 3, True], [2, 3, False], [4, 3, {}], (None,),
         ({},), ("data",), (("data",),), [2, 3, -1], [2, 3, 100], [-1], [100], [10 ** 40], nested(900),
+        ANY, [ANY], (ANY, ANY), (ANY, ()),
     ]
 
 

@@ -6,7 +6,7 @@ import pathlib
 import re
 import unittest
 
-from boxshift import boxes, forms, layouts, patches, series, shapes
+from boxshift import boxes, edits, forms, growing, layouts, patches, series, sessions, shapes, texts
 from tests.form import METHODS, DUNDERS, methods_called, methods_defined, modules_imported, wrongs_of
 
 FOLDER = pathlib.Path(__file__).parent.parent / "boxshift"
@@ -22,10 +22,16 @@ INTERFACE = {
     "patches": ["cheapest", "least_cost", "Patch", "room_costs"],
     "forms": ["is_form", "nearest", "distance", "Near"],
     "series": ["series", "series_cost", "one_by_one", "Series"],
+    "growing": ["growths", "grown", "tight"],
+    "edits": ["edited", "is_edit"],
+    "sessions": ["Session"],
+    "texts": ["file_text", "read_file"],
 }
 # The methods that the document's interface lists for a class, and those that it tells in words.
 LISTED = {"Patch": ["__init__", "__eq__", "shows"], "Near": ["__init__", "__eq__", "shows"],
-          "Series": ["__init__", "__eq__", "shows"]}
+          "Series": ["__init__", "__eq__", "shows"],
+          "Session": ["__init__", "__len__", "current", "journal", "contents", "spent", "edit", "undo", "branch",
+                      "trial", "tried"]}
 PARAMETERS = [
     ("cells", [boxes.read, boxes.shape_of, boxes.free_cells, boxes.first_wrong]),
     ("shape", [shapes.least_room, shapes.count_gaps]),
@@ -40,6 +46,17 @@ PARAMETERS = [
     ("self cells shape room", [patches.Patch.shows]),
     ("self cells", [forms.Near.shows]),
     ("self cells shapes room", [series.Series.shows]),
+    ("cells number", [growing.growths]),
+    ("cells number content", [growing.grown]),
+    ("cells", [growing.tight, texts.file_text]),
+    ("shape edit", [edits.edited]),
+    ("shape value", [edits.is_edit]),
+    ("cells spare", [sessions.Session]),
+    ("self edit", [sessions.Session.edit]),
+    ("self edits", [sessions.Session.tried]),
+    ("self", [sessions.Session.contents, sessions.Session.spent, sessions.Session.undo, sessions.Session.branch,
+              sessions.Session.trial]),
+    ("text", [texts.read_file]),
 ]
 # Each source breaks the rule behind it.
 BROKEN = [
@@ -74,6 +91,9 @@ BROKEN = [
     ("def f(x):\n    try:\n        return x\n    except TypeError:\n        return 1\n", "L19"),
     ("def f(x):\n    try:\n        return x\n    except:\n        return 1\n", "L19"),
     ("class A:\n    def __hash__(self):\n        return 1\n", "L5"),
+    ("class A:\n    def __exit__(self, kind, value, trace):\n        return True\n", "L6"),
+    ("class A:\n    def __exit__(self, kind, value, trace):\n        self.rows.pop()\n", "L6"),
+    ("class A:\n    def __exit__(self, kind, value, trace):\n        self.error = value\n", "L6"),
     ("class A:\n    def f(self):\n        return 1\n\n    def f(self):\n        return 2\n", "L18"),
     ("def g(f):\n    return f\n\n\n@g\ndef f():\n    return 1\n", "L4"),
 ]

@@ -3,6 +3,7 @@
 import copy
 import random
 import unittest
+from unittest.mock import ANY
 
 from boxshift.boxes import shape_of
 from boxshift.errors import BadShape
@@ -64,7 +65,7 @@ class LimitsTest(Shapes):
 
     def test_values_of_cells(self):
         self.check_shape((("data", (0, 99)),), 4, 2)
-        for cell in [-1, 100, True, False, None, "0", (), (0,), [0], 10 ** 30]:
+        for cell in [-1, 100, True, False, None, "0", (), (0,), [0], 10 ** 30, ANY]:
             self.check_refused((("data", (5, cell)),))
 
     def test_targets_in_a_table(self):
@@ -116,7 +117,7 @@ class LimitsTest(Shapes):
         for box in [(), ("data",), ("data", (), ()), "ab", None, 2, True, [], {}, ("Data", ()), ("", ()), (2, ()),
                     (None, ()), (("data",), ()), ([], ()), ({}, ()), ("data", None), ("data", 0), ("data", "7"),
                     ("data", {}), ("group", None), ("group", 2), ("group", "a"), ("group", ONE), ("group", {}),
-                    ("table", None), ("table", {}), ("table", 0), (True, ()), (b"data", ())]:
+                    ("table", None), ("table", {}), ("table", 0), (True, ()), (b"data", ()), (ANY, ()), ("data", ANY)]:
             self.check_refused((box,))
             self.check_refused((ONE, box))
             self.check_refused((("group", (box,)),))
